@@ -1,6 +1,7 @@
 package value
 
 import (
+	"cmp"
 	"strings"
 	"testing"
 
@@ -88,12 +89,7 @@ func TestCompareFollowsKindNumText(t *testing.T) {
 	}
 	for i, a := range ascending {
 		for k, b := range ascending {
-			want := 0
-			if i < k {
-				want = -1
-			} else if i > k {
-				want = 1
-			}
+			want := cmp.Compare(i, k)
 			if got := Compare(a, b); got != want {
 				t.Errorf("Compare(%v, %v) is %d", a, b, got)
 			}
@@ -140,12 +136,7 @@ func TestCompareRowsFollowsFirstDifference(t *testing.T) {
 	}
 	for i, a := range ascending {
 		for k, b := range ascending {
-			want := 0
-			if i < k {
-				want = -1
-			} else if i > k {
-				want = 1
-			}
+			want := cmp.Compare(i, k)
 			if got := CompareRows(a, b); got != want {
 				t.Errorf("CompareRows(%v, %v) is %d", a, b, got)
 			}
