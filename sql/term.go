@@ -4,27 +4,28 @@ import (
 	"querylab/api"
 	"querylab/expression"
 	"querylab/schema"
+	"querylab/syntax"
 	"querylab/value"
 )
 
-func (p *parser) term() api.Term {
+func (p parser) term() api.Term {
 	return p.chain(p.and, api.OpOr)
 }
 
-func (p *parser) and() api.Term {
+func (p parser) and() api.Term {
 	return p.chain(p.not, api.OpAnd)
 }
 
-func (p *parser) sum() api.Term {
+func (p parser) sum() api.Term {
 	return p.chain(p.product, api.OpAdd, api.OpSub, api.OpConcat)
 }
 
-func (p *parser) product() api.Term {
+func (p parser) product() api.Term {
 	return p.chain(p.unary, api.OpMul, api.OpDiv, api.OpMod)
 }
 
 // chain reads one part or more, with these operations between them, from left to right.
-func (p *parser) chain(part func() api.Term, ops ...int) api.Term {
+func (p parser) chain(part func() api.Term, ops ...int) api.Term {
 	t := part()
 	for {
 		op, ok := p.operator(ops...)
@@ -36,9 +37,9 @@ func (p *parser) chain(part func() api.Term, ops ...int) api.Term {
 }
 
 // operator goes behind the present token if it is the sign of one of these operations.
-func (p *parser) operator(ops ...int) (int, bool) {
+func (p parser) operator(ops ...int) (int, bool) {
 	for _, op := range ops {
-		if o, ok := find(op); ok && p.take(o.word) {
+		if o, ok := find(op); ok && p.Take(o.word) {
 			return op, true
 		}
 	}
@@ -49,34 +50,34 @@ func operate(op int, kids ...api.Term) api.Term {
 	return api.Term{Op: op, Kids: kids}
 }
 
-func (p *parser) not() api.Term {
-	if p.take("not") {
+func (p parser) not() api.Term {
+	if p.Take("not") {
 		return operate(api.OpNot, p.not())
 	}
 	return p.comparison()
 }
 
-func (p *parser) comparison() api.Term {
+func (p parser) comparison() api.Term {
 	t := p.sum()
 	op, ok := p.operator(api.OpEq, api.OpNe, api.OpLt, api.OpLe, api.OpGt, api.OpGe, api.OpSame)
 	switch {
 	case ok:
 		return operate(op, t, p.sum())
-	case p.take("is"):
+	case p.Take("is"):
 		return p.property(t)
-	case p.take("in"):
+	case p.Take("in"):
 		return operate(api.OpIn, append([]api.Term{t}, p.arguments()...)...)
 	}
 	return t
 }
 
 // property reads what stands behind is.
-func (p *parser) property(t api.Term) api.Term {
-	if p.take("true") {
+func (p parser) property(t api.Term) api.Term {
+	if p.Take("true") {
 		return operate(api.OpIsTrue, t)
 	}
-	negated := p.take("not")
-	p.expect("null")
+	negated := p.Take("not")
+	p.Expect("null")
 	t = operate(api.OpIsNull, t)
 	if negated {
 		return operate(api.OpNot, t)
@@ -84,28 +85,28 @@ func (p *parser) property(t api.Term) api.Term {
 	return t
 }
 
-func (p *parser) unary() api.Term {
-	if !p.take("-") {
+func (p parser) unary() api.Term {
+	if !p.Take("-") {
 		return p.primary()
 	}
 	// Only a number that is not 0 has a text that begins with the sign.
-	if v, err := value.Parse("-" + p.token); err == api.OK {
-		p.next()
+	if v, err := value.Parse("-" + p.Token()); err == api.OK {
+		p.Next()
 		return constant(v, api.Int)
 	}
 	return operate(api.OpNeg, p.unary())
 }
 
-func (p *parser) primary() api.Term {
-	if v, err := value.Parse(p.token); err == api.OK && v.Kind != api.Null {
-		p.next()
+func (p parser) primary() api.Term {
+	if v, err := value.Parse(p.Token()); err == api.OK && v.Kind != api.Null {
+		p.Next()
 		return constant(v, v.Kind)
 	}
-	if schema.Name(p.token) {
+	if schema.Name(p.Token()) {
 		return p.column()
 	}
-	if p.token == "(" {
-		return bracketed(p, p.term)
+	if p.Token() == "(" {
+		return syntax.Bracketed(p.Reader, p.term)
 	}
 	return p.special()
 }
@@ -115,73 +116,73 @@ func constant(v api.Value, t int) api.Term {
 	return api.Term{Op: e.Op, Type: e.Type, Num: e.Num, Text: e.Text}
 }
 
-func (p *parser) column() api.Term {
-	first := p.name()
-	if p.take(".") {
-		return api.Term{Op: api.TermName, Qualifier: first, Text: p.name()}
+func (p parser) column() api.Term {
+	first := p.Name()
+	if p.Take(".") {
+		return api.Term{Op: api.TermName, Qualifier: first, Text: p.Name()}
 	}
 	return api.Term{Op: api.TermName, Text: first}
 }
 
 // special reads a term that begins with a word of its own.
-func (p *parser) special() api.Term {
+func (p parser) special() api.Term {
 	switch {
-	case p.take("null"):
+	case p.Take("null"):
 		return p.null()
-	case p.take("length"):
-		return operate(api.OpLength, bracketed(p, p.term))
-	case p.take("coalesce"):
+	case p.Take("length"):
+		return operate(api.OpLength, syntax.Bracketed(p.Reader, p.term))
+	case p.Take("coalesce"):
 		return p.coalesce()
-	case p.take("case"):
+	case p.Take("case"):
 		return p.choice()
-	case p.take("count"):
-		return bracketed(p, p.counted)
+	case p.Take("count"):
+		return syntax.Bracketed(p.Reader, p.counted)
 	}
-	agg := p.choose(aggWords()...)
+	agg := p.Choose(aggWords()...)
 	if agg < 0 {
-		p.stop()
+		p.Stop()
 	}
-	return aggregate(api.AggSum+agg, bracketed(p, p.term))
+	return aggregate(api.AggSum+agg, syntax.Bracketed(p.Reader, p.term))
 }
 
-func (p *parser) null() api.Term {
-	t := p.choose(typeWords()...)
+func (p parser) null() api.Term {
+	t := p.Choose(typeWords()...)
 	if t < 0 {
-		p.stop()
+		p.Stop()
 	}
 	return constant(api.Value{}, api.Int+t)
 }
 
-func (p *parser) arguments() []api.Term {
-	return bracketed(p, func() []api.Term { return list(p, p.term) })
+func (p parser) arguments() []api.Term {
+	return syntax.Bracketed(p.Reader, func() []api.Term { return syntax.List(p.Reader, p.term) })
 }
 
-func (p *parser) coalesce() api.Term {
-	p.expect("(")
+func (p parser) coalesce() api.Term {
+	p.Expect("(")
 	first := p.term()
-	p.expect(",")
+	p.Expect(",")
 	second := p.term()
-	p.expect(")")
+	p.Expect(")")
 	return operate(api.OpCoalesce, first, second)
 }
 
-func (p *parser) choice() api.Term {
-	p.expect("when")
+func (p parser) choice() api.Term {
+	p.Expect("when")
 	cond := p.term()
-	p.expect("then")
+	p.Expect("then")
 	yes := p.term()
-	p.expect("else")
+	p.Expect("else")
 	no := p.term()
-	p.expect("end")
+	p.Expect("end")
 	return operate(api.OpCase, cond, yes, no)
 }
 
 // counted reads what stands in the brackets of count.
-func (p *parser) counted() api.Term {
+func (p parser) counted() api.Term {
 	switch {
-	case p.take("*"):
+	case p.Take("*"):
 		return aggregate(api.AggRows)
-	case p.take("distinct"):
+	case p.Take("distinct"):
 		return aggregate(api.AggDistinct, p.term())
 	}
 	return aggregate(api.AggCount, p.term())
