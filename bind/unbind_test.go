@@ -236,6 +236,9 @@ func TestUnbindLeavesNothingShared(t *testing.T) {
 			t.Fatal(text)
 		}
 		alone(t, reflect.ValueOf(again), map[uintptr]bool{})
+		if q, _, err := Bind(testSchema(t), x); err == api.OK {
+			alone(t, reflect.ValueOf(q), map[uintptr]bool{})
+		}
 	}
 }
 
