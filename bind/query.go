@@ -4,6 +4,7 @@ import (
 	"slices"
 
 	"querylab/api"
+	"querylab/naming"
 	"querylab/schema"
 )
 
@@ -43,7 +44,7 @@ func (b binder) selection(x api.Statement) (result, api.Errno) {
 	if err != api.OK {
 		return result{}, err
 	}
-	find := finder(r.scope.find)
+	find := naming.Finder(r.scope.find)
 	if isGrouped(x) {
 		r.query, find, err = grouped(r, x)
 		if err != api.OK {
@@ -104,7 +105,7 @@ func joined(left, right relation, j api.Joined) (relation, api.Errno) {
 		return relation{q, both}, api.OK
 	}
 	var err api.Errno
-	q.Cond, err = expressionOf(j.On[0], both.find)
+	q.Cond, err = naming.Expr(j.On[0], both.find)
 	return relation{q, behind(j.Kind, left.scope, both)}, err
 }
 
@@ -117,7 +118,7 @@ func behind(kind int, left, both scope) scope {
 }
 
 // selected returns a query with these conditions, of which there is one at most.
-func selected(q api.Query, conditions []api.Term, find finder) (api.Query, api.Errno) {
+func selected(q api.Query, conditions []api.Term, find naming.Finder) (api.Query, api.Errno) {
 	l, err := expressionsOf(conditions, find)
 	for _, cond := range l {
 		q = api.Query{Op: api.QSelect, Cond: cond, Kids: []api.Query{q}}
@@ -138,7 +139,7 @@ func terms(items []api.Item) []api.Term {
 }
 
 // grouped returns the groups that having lets through, and how columns above them are found.
-func grouped(r relation, x api.Statement) (api.Query, finder, api.Errno) {
+func grouped(r relation, x api.Statement) (api.Query, naming.Finder, api.Errno) {
 	g, err := groupOf(x, r.scope)
 	if err != api.OK {
 		return api.Query{}, nil, err
@@ -169,7 +170,7 @@ func groupOf(x api.Statement, below scope) (group, api.Errno) {
 }
 
 // projected returns the columns that a select gives.
-func projected(r relation, x api.Statement, find finder) (result, api.Errno) {
+func projected(r relation, x api.Statement, find naming.Finder) (result, api.Errno) {
 	exprs, err := expressionsOf(terms(x.Items), find)
 	if err != api.OK {
 		return result{}, err

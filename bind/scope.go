@@ -5,6 +5,7 @@ import (
 
 	"querylab/api"
 	"querylab/expression"
+	"querylab/naming"
 )
 
 // column is a column that a name can stand for. Its qualifier and its name may be empty.
@@ -85,7 +86,7 @@ func (g group) find(t api.Term) (int, bool, api.Errno) {
 		a, err := aggregateOf(t, g.below)
 		return len(g.keys) + index(g.aggs, a, sameAgg), true, err
 	}
-	e, err := expressionOf(t, g.below.find)
+	e, err := naming.Expr(t, g.below.find)
 	if err == api.OK {
 		if key := index(g.keys, e, expression.Same); key >= 0 {
 			return key, true, api.OK
@@ -101,12 +102,12 @@ func (g group) find(t api.Term) (int, bool, api.Errno) {
 // reference returns a term that stands for a column, or for an earlier one that is the same.
 func (g group) reference(place int) api.Term {
 	if place < len(g.keys) {
-		return termOf(g.keys[place], g.below.reference)
+		return naming.Term(g.keys[place], g.below.reference)
 	}
 	a := g.aggs[place-len(g.keys)]
 	t := api.Term{Op: api.TermAgg, Num: int64(a.Fun)}
 	if a.Fun != api.AggRows {
-		t.Kids = []api.Term{termOf(a.Arg, g.below.reference)}
+		t.Kids = []api.Term{naming.Term(a.Arg, g.below.reference)}
 	}
 	return t
 }

@@ -4,6 +4,7 @@ import (
 	"strings"
 
 	"querylab/api"
+	"querylab/naming"
 	"querylab/schema"
 	"querylab/sql"
 	"querylab/syntax"
@@ -171,7 +172,7 @@ func tableText(t api.Table) string {
 		parts = append(parts, "foreign "+columnsText(t, f.Columns)+" references "+f.Table)
 	}
 	for _, e := range t.Checks {
-		check := termOf(e, columnsOf("", names(t)).reference)
+		check := naming.Term(e, columnsOf("", names(t)).reference)
 		parts = append(parts, "check ("+sql.TermText(check)+")")
 	}
 	return "table " + t.Name + " (" + strings.Join(parts, ", ") + ");\n"

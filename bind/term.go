@@ -1,28 +1,13 @@
 package bind
 
-import "querylab/api"
+import (
+	"querylab/api"
+	"querylab/naming"
+)
 
-// finder returns the column that a whole term stands for, and whether it stands for one.
-type finder func(api.Term) (int, bool, api.Errno)
-
-// expressionOf returns the expression of a term, which it looks at from outside to inside.
-func expressionOf(t api.Term, find finder) (api.Expr, api.Errno) {
-	place, found, err := find(t)
-	if err != api.OK {
-		return api.Expr{}, err
-	}
-	if found {
-		return api.Expr{Op: api.OpColumn, Column: place}, api.OK
-	}
-	kids, err := expressionsOf(t.Kids, find)
-	if err != api.OK {
-		return api.Expr{}, err
-	}
-	return api.Expr{Op: t.Op, Type: t.Type, Num: t.Num, Text: t.Text, Kids: kids}, api.OK
-}
-
-func expressionsOf(l []api.Term, find finder) ([]api.Expr, api.Errno) {
-	return each(l, func(t api.Term) (api.Expr, api.Errno) { return expressionOf(t, find) })
+// expressionsOf returns the expressions of terms, or the first error.
+func expressionsOf(l []api.Term, find naming.Finder) ([]api.Expr, api.Errno) {
+	return each(l, func(t api.Term) (api.Expr, api.Errno) { return naming.Expr(t, find) })
 }
 
 // each returns what becomes of the elements of a list, or the first error.
@@ -45,7 +30,7 @@ func aggregateOf(t api.Term, below scope) (api.Agg, api.Errno) {
 		return a, api.OK
 	}
 	var err api.Errno
-	a.Arg, err = expressionOf(t.Kids[0], below.find)
+	a.Arg, err = naming.Expr(t.Kids[0], below.find)
 	return a, err
 }
 
@@ -62,18 +47,11 @@ func aggregates(l []api.Term) []api.Term {
 	return all
 }
 
-// termOf returns a term of an expression whose columns have these references.
-func termOf(e api.Expr, reference func(place int) api.Term) api.Term {
-	if e.Op == api.OpColumn {
-		return reference(e.Column)
-	}
-	return api.Term{Op: e.Op, Type: e.Type, Num: e.Num, Text: e.Text, Kids: termsOf(e.Kids, reference)}
-}
-
+// termsOf returns terms of expressions whose columns have these references.
 func termsOf(l []api.Expr, reference func(place int) api.Term) []api.Term {
 	var all []api.Term
 	for _, e := range l {
-		all = append(all, termOf(e, reference))
+		all = append(all, naming.Term(e, reference))
 	}
 	return all
 }

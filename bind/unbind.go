@@ -6,6 +6,7 @@ import (
 
 	"querylab/api"
 	"querylab/expression"
+	"querylab/naming"
 	"querylab/schema"
 )
 
@@ -114,7 +115,7 @@ func (u unbinder) addSources(x *api.Statement, q api.Query) scope {
 		source, next := u.source(j.Kids[1], used)
 		both := slices.Concat(all, next)
 		used = append(used, qualifier(source))
-		x.Joins = append(x.Joins, api.Joined{Kind: j.Kind, Source: source, On: []api.Term{termOf(j.Cond, both.reference)}})
+		x.Joins = append(x.Joins, api.Joined{Kind: j.Kind, Source: source, On: []api.Term{naming.Term(j.Cond, both.reference)}})
 		all = behind(j.Kind, all, both)
 	}
 	return all
